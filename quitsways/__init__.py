@@ -1,0 +1,1 @@
+"""Quitsways: how many payments until all are quits."""

@@ -1,0 +1,39 @@
+"""The document's examples."""
+
+import unittest
+
+from quitsways.drawings import many_ways_for, pieces
+from quitsways.evenings import Evening, measure, total
+from quitsways.numbers import fewest, greatest, loaves
+from quitsways.parts import least_groups, most_parts
+from quitsways.ways import paid
+
+P = Evening(((2, 1), (1, 1), (1, 1)), ((2, 1), (1, 1), (1, 1)))
+Q = Evening(((1, 1), (3, 1)), ((2, 1), (2, 1)))
+
+
+class TestExamples(unittest.TestCase):
+    def test_e01(self):
+        self.assertEqual(measure(Q), (1, 1))
+        self.assertEqual(total(P), (4, 1))
+
+    def test_e02(self):
+        self.assertEqual(paid(Q, ((0, 0), (1, 1), (1, 0))), ((1, 1), (2, 1), (1, 1)))
+
+    def test_e03(self):
+        self.assertEqual(pieces(P, ((0, 0), (1, 1), (2, 2))), [((0,), (0,)), ((1,), (1,)), ((2,), (2,))])
+
+    def test_e04(self):
+        self.assertEqual(many_ways_for(Q, ((0, 0), (1, 0), (1, 1))), 4)
+
+    def test_e05(self):
+        self.assertEqual(most_parts(P), 3)
+        self.assertEqual(least_groups(Q), [((0, 1), (0, 1))])
+
+    def test_e06(self):
+        self.assertEqual((fewest(P), greatest(P)), (3, 4))
+        self.assertEqual(loaves(4, 6), (8, 9))
+
+
+if __name__ == "__main__":
+    unittest.main()
