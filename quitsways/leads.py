@@ -52,9 +52,7 @@ def lead_front(tally, owers, takers):
 
 
 def greatest_left(tally):
-    """The greatest number of payments until all are quits."""
-    if tally.is_over():
-        return 0
+    """The greatest number of payments until all are quits, of whom some are not."""
     shared = 0
     for rest in tally.owing + tally.awaiting:
         shared = gcd(shared, rest)
@@ -75,10 +73,11 @@ def lead_long(tally):
 def _long_pair(tally):
     """A pair that can pay first in a way of the most payments.
 
-    Somebody with the least rest of all pays, or is paid by, somebody with a greater one. Say that there is a way of
-    one piece, which is so just if the sum is the people less one times the measure, or more. Then it is so again
-    behind one of these pairs, and the first such pair is taken. Say that there is none: then the least rest is the
-    measure, and stays so, and each payment behind any of these pairs is just the measure, which nothing can surpass.
+    Somebody with the least rest of all pays, or is paid by, somebody with a greater one, if there is any. Say that
+    there is a way of one piece, which is so just if one side's sum is the measure times the people less one, or more:
+    then it is so again behind one of these pairs, and the first such pair is taken. Say that there is none: then the
+    least rest is the measure, now and behind any of these pairs, and no way can have more payments than one that pays
+    just the measure each time.
     """
     owers = standing(tally.owing)
     takers = standing(tally.awaiting)

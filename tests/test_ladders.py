@@ -64,6 +64,14 @@ class TestLadders(Checks, unittest.TestCase):
         self.flag(True, is_ladder, P, 4, made)
         self.flag(False, is_ladder, P, 3, made)
 
+    def test_nobody_has_nought(self):
+        for evening in (P, Q):
+            for more in (1, 2, 10 ** 39):
+                thing = {group: value + more for group, value in ladder(evening).items()}
+                self.flag(False, is_ladder, evening, 10 ** 40 - 1, thing)
+                thing[NOBODY] = 0
+                self.flag(True, is_ladder, evening, 10 ** 40 - 1, thing)
+
     def test_the_order_of_the_keys_means_nothing(self):
         made = ladder(P)
         turned = {group: made[group] for group in sorted(made, reverse=True)}
