@@ -31,6 +31,11 @@ def times(one, other):
     return lowest(one[0] * other[0], one[1] * other[1])
 
 
+def is_at_most(one, other):
+    """Whether one fraction is no more than another one."""
+    return one[0] * other[1] <= other[0] * one[1]
+
+
 def common_bottom(fractions):
     """The least bottom that all of the fractions can be written with."""
     shared = 1

@@ -2,7 +2,7 @@
 
 from quitsways.errors import NoDrawing, NoWay, TooMany
 from quitsways.evenings import people
-from quitsways.kinds import is_ascending, is_two_people
+from quitsways.kinds import is_pairs
 from quitsways.tally import Tally
 from quitsways.ways import is_way
 
@@ -51,11 +51,7 @@ def drawing(evening, way):
 
 def _way_of(evening, thing):
     """A way of just these pairs, or None if a thing is no drawing."""
-    if not isinstance(thing, tuple):
-        return None
-    owers = len(evening.owed)
-    takers = len(evening.due)
-    if not all([is_two_people(pair, owers, takers) for pair in thing]) or not is_ascending(thing):
+    if not is_pairs(thing, len(evening.owed), len(evening.due)):
         return None
     order = _outer_first(thing)
     # The amounts that pass are the same in each order in which nobody is quits ahead of their last pair,

@@ -29,3 +29,17 @@ def is_two_people(thing, owers, takers):
     if not isinstance(thing, tuple) or len(thing) != 2:
         return False
     return is_number_below(thing[0], owers) and is_number_below(thing[1], takers)
+
+
+def is_pairs(thing, owers, takers):
+    """Whether a thing is an ascending tuple of unlike pairs of people, of so many owers and takers."""
+    if not isinstance(thing, tuple):
+        return False
+    return all([is_two_people(pair, owers, takers) for pair in thing]) and is_ascending(thing)
+
+
+def is_table(thing, owers, takers):
+    """Whether a thing is a tuple with a tuple for each of so many owers, with something for each of so many takers."""
+    if not isinstance(thing, tuple) or len(thing) != owers:
+        return False
+    return all([isinstance(row, tuple) and len(row) == takers for row in thing])

@@ -35,11 +35,11 @@ def lead_short(tally):
 
 
 def lead_front(tally, owers, takers):
-    """Let the front ones of two queues with equal rests pay, whoever is quits going, and give the list of the pairs."""
+    """Let the front ones of two queues pay, whoever is quits going, until one is empty; give the list of the pairs."""
     pairs = []
     gone_owers = 0
     gone_takers = 0
-    while gone_owers < len(owers):
+    while gone_owers < len(owers) and gone_takers < len(takers):
         ower = owers[gone_owers]
         taker = takers[gone_takers]
         tally.pay(ower, taker)

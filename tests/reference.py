@@ -2,9 +2,10 @@
 
 import random
 from fractions import Fraction
+from functools import lru_cache
 from itertools import combinations
 
-from quitsways.evenings import Evening
+from quitsways.evenings import Evening, measure
 
 
 def fraction(amount):
@@ -65,6 +66,73 @@ def all_ways(some_evening):
 
     go_on(*start(some_evening), [])
     return found
+
+
+@lru_cache(None)
+def lengths(owing, awaiting):
+    """The numbers of payments of all ways from these rests on, by trying all."""
+    if not owing:
+        return frozenset([0])
+    found = set()
+    for ower, rest in enumerate(owing):
+        for taker, other in enumerate(awaiting):
+            lesser = min(rest, other)
+            left = sorted(owing[:ower] + owing[ower + 1:] + ((rest - lesser,) if rest > lesser else ()))
+            due = sorted(awaiting[:taker] + awaiting[taker + 1:] + ((other - lesser,) if other > lesser else ()))
+            found |= {number + 1 for number in lengths(tuple(left), tuple(due))}
+    return frozenset(found)
+
+
+def lengths_of(some_evening):
+    """The numbers of payments of all ways of an evening, ascending."""
+    owing, awaiting = start(some_evening)
+    unit = fraction(measure(some_evening))
+    return sorted(lengths(tuple(sorted(int(each / unit) for each in owing)),
+                          tuple(sorted(int(each / unit) for each in awaiting))))
+
+
+def drawn_way(chance, some_evening):
+    """A way each of whose payments is drawn."""
+    owing, awaiting = start(some_evening)
+    row = []
+    while any(owing):
+        ower = chance.choice([person for person, rest in enumerate(owing) if rest])
+        taker = chance.choice([person for person, rest in enumerate(awaiting) if rest])
+        lesser = min(owing[ower], awaiting[taker])
+        owing[ower] -= lesser
+        awaiting[taker] -= lesser
+        row.append((ower, taker))
+    return tuple(row)
+
+
+def no_table(some_evening):
+    """Nothing between each two people, as lists."""
+    return [[Fraction(0) for _ in some_evening.due] for _ in some_evening.owed]
+
+
+def table(values):
+    """Lists of values as a tuple of tuples of the document's fractions."""
+    return tuple(tuple(amount(each) for each in row) for row in values)
+
+
+def values(settlement):
+    """The other way round."""
+    return [[fraction(each) for each in row] for row in settlement]
+
+
+def mixed(some_evening, shared_ways):
+    """What passes between each two people if so much of each way is paid, as lists."""
+    found = no_table(some_evening)
+    for share, way in shared_ways:
+        for (ower, taker), units in zip(way, play(some_evening, way)[2]):
+            found[ower][taker] += Fraction(share) * units
+    return found
+
+
+def even_shares(some_evening):
+    """The settlement in which each pays each by how much both are due of all, as lists."""
+    owing, awaiting = start(some_evening)
+    return [[rest * other / sum(owing) for other in awaiting] for rest in owing]
 
 
 def lots(many):

@@ -2,10 +2,14 @@
 
 import unittest
 
+from quitsways.alike import is_alike, unit_of
+from quitsways.cheapest import cheapest
 from quitsways.drawings import many_ways_for, pieces
 from quitsways.evenings import Evening, measure, total
 from quitsways.numbers import fewest, greatest, loaves
+from quitsways.pairs import passing, surely
 from quitsways.parts import least_groups, most_parts
+from quitsways.settlements import settled
 from quitsways.ways import paid
 
 P = Evening(((2, 1), (1, 1), (1, 1)), ((2, 1), (1, 1), (1, 1)))
@@ -33,6 +37,20 @@ class TestExamples(unittest.TestCase):
     def test_e06(self):
         self.assertEqual((fewest(P), greatest(P)), (3, 4))
         self.assertEqual(loaves(4, 6), (8, 9))
+
+    def test_e07(self):
+        self.assertIs(unit_of(Q), None)
+        self.assertIs(is_alike(Q), True)
+
+    def test_e08(self):
+        self.assertEqual(settled(Q, ((0, 0), (1, 1), (1, 0))), (((1, 1), (0, 1)), ((1, 1), (2, 1))))
+
+    def test_e09(self):
+        self.assertEqual(cheapest(Q, ((0, 1), (0, 0)))[0], (0, 1))
+
+    def test_e10(self):
+        self.assertEqual(passing(Q, 1, 0), [(1, 1), (2, 1)])
+        self.assertEqual(surely(Q), [(1, 0), (1, 1)])
 
 
 if __name__ == "__main__":

@@ -37,6 +37,14 @@ INTERFACE = {
     "ladders": "ladder(evening) is_ladder(evening, bound, thing)",
     "numbers": "fewest(evening) greatest(evening) short_way(evening) long_way(evening) can_have(evening, number) "
                "way_of(evening, number) loaves(one, other)",
+    "alike": "unit_of(evening) unlike_ways(evening) is_alike(evening)",
+    "settlements": "is_settlement(evening, thing) is_mixture(evening, settlement, thing) settled(evening, way) "
+                   "mixture(evening, settlement)",
+    "cheapest": "cost(evening, prices, settlement) cheapest(evening, prices) bound(evening, prices) "
+                "is_bound(evening, prices, least, thing)",
+    "pairs": "can_pass(evening, ower, taker, amount) passing(evening, ower, taker) surely(evening) "
+             "way_passing(evening, ower, taker, amount) without(evening, ower, taker) most_by(evening, ower) "
+             "least_by(evening, ower)",
 }
 
 

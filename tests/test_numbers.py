@@ -3,7 +3,6 @@
 import random
 import unittest
 from fractions import Fraction
-from functools import lru_cache
 from math import gcd, lcm
 
 from quitsways.errors import NoNumber, TooMany
@@ -22,29 +21,6 @@ BIG = 10 ** 40 - 1
 MANY = Evening((ONE,) * 8, (ONE,) * 7 + (ONE,))
 
 
-@lru_cache(None)
-def lengths(owing, awaiting):
-    """The numbers of payments of all ways from these rests on, by trying all."""
-    if not owing:
-        return frozenset([0])
-    found = set()
-    for ower, rest in enumerate(owing):
-        for taker, other in enumerate(awaiting):
-            lesser = min(rest, other)
-            left = sorted(owing[:ower] + owing[ower + 1:] + ((rest - lesser,) if rest > lesser else ()))
-            due = sorted(awaiting[:taker] + awaiting[taker + 1:] + ((other - lesser,) if other > lesser else ()))
-            found |= {number + 1 for number in lengths(tuple(left), tuple(due))}
-    return frozenset(found)
-
-
-def lengths_of(evening):
-    """The numbers of payments of all ways of an evening, ascending."""
-    owing, awaiting = reference.start(evening)
-    unit = reference.fraction(measure(evening))
-    return sorted(lengths(tuple(sorted(int(each / unit) for each in owing)),
-                          tuple(sorted(int(each / unit) for each in awaiting))))
-
-
 class TestNumbers(Checks, unittest.TestCase):
     def test_some(self):
         self.assertEqual((fewest(P), greatest(P)), (3, 4))
@@ -55,7 +31,7 @@ class TestNumbers(Checks, unittest.TestCase):
 
     def test_against_all_ways(self):
         for evening in [P, Q] + reference.small_evenings(10, 400, 8):
-            known = lengths_of(evening)
+            known = reference.lengths_of(evening)
             self.assertEqual((fewest(evening), greatest(evening)), (known[0], known[-1]))
             self.plain((fewest(evening), greatest(evening)))
             self.way(evening, short_way(evening), known[0])
