@@ -1,8 +1,8 @@
 """Drawings: who pays whom in a way, whatever the order."""
 
 from quitsways.errors import NoDrawing, NoWay, TooMany
-from quitsways.evenings import people
 from quitsways.kinds import is_pairs
+from quitsways.marks import hanging_marks
 from quitsways.tally import Tally
 from quitsways.ways import is_way
 
@@ -27,11 +27,7 @@ def pieces(evening, way):
     if not is_way(evening, way):
         raise NoWay()
     owers = len(evening.owed)
-    marks = list(range(people(evening)))
-    for ower, taker in way:
-        kept = marks[ower]
-        gone = marks[owers + taker]
-        marks = [kept if mark == gone else mark for mark in marks]
+    marks = hanging_marks(owers, len(evening.due), way)
     return sorted([_marked(marks, owers, mark) for mark in sorted(set(marks))])
 
 

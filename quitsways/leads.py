@@ -52,7 +52,9 @@ def lead_front(tally, owers, takers):
 
 
 def greatest_left(tally):
-    """The greatest number of payments until all are quits, of whom some are not."""
+    """The greatest number of payments until all are quits."""
+    if tally.is_over():
+        return 0
     shared = 0
     for rest in tally.owing + tally.awaiting:
         shared = gcd(shared, rest)
@@ -64,13 +66,13 @@ def lead_long(tally):
     """Make all quits with as many payments as can be, and give the list of the pairs that pay."""
     pairs = []
     while not tally.is_over():
-        ower, taker = _long_pair(tally)
+        ower, taker = long_pair(tally)
         tally.pay(ower, taker)
         pairs.append((ower, taker))
     return pairs
 
 
-def _long_pair(tally):
+def long_pair(tally):
     """A pair that can pay first in a way of the most payments.
 
     Somebody with the least rest of all pays, or is paid by, somebody with a greater one, if there is any. Say that

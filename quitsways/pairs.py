@@ -1,27 +1,14 @@
 """Two people: what can pass between them, and whether they must pay one another."""
 
 from quitsways.amounts import is_amount, lowest
-from quitsways.errors import NoAmount, NoPerson
-from quitsways.kinds import is_number_below
+from quitsways.errors import NoAmount
 from quitsways.leads import lead_front, standing
 from quitsways.limits import MOST_PARTED, check_people
+from quitsways.persons import check_ower, check_two
 from quitsways.tally import Tally
 from quitsways.trees import Trees
 
 MOST_BY_ONE = 8
-
-
-def _check_ower(evening, thing):
-    """Refuse what is no ower."""
-    if not is_number_below(thing, len(evening.owed)):
-        raise NoPerson()
-
-
-def _check_two(evening, ower, taker):
-    """Refuse what is no ower, then what is no taker."""
-    _check_ower(evening, ower)
-    if not is_number_below(taker, len(evening.due)):
-        raise NoPerson()
 
 
 def _lots(units, more, less):
@@ -55,7 +42,7 @@ def _differences(evening, ower, taker):
 
 def passing(evening, ower, taker):
     """The ascending list of all amounts that can pass between two people."""
-    _check_two(evening, ower, taker)
+    check_two(evening, ower, taker)
     bottom = Tally(evening).bottom
     return [lowest(units, bottom) for units in sorted(_differences(evening, ower, taker))]
 
@@ -67,7 +54,7 @@ def can_pass(evening, ower, taker, amount):
 
 def way_passing(evening, ower, taker, amount):
     """A way with a payment of just this amount between two people, or None."""
-    _check_two(evening, ower, taker)
+    check_two(evening, ower, taker)
     if not is_amount(amount):
         raise NoAmount()
     differences = _differences(evening, ower, taker)
@@ -98,7 +85,7 @@ def surely(evening):
 
 def without(evening, ower, taker):
     """A way in which two people do not pay one another, or None."""
-    _check_two(evening, ower, taker)
+    check_two(evening, ower, taker)
     tally = Tally(evening)
     others = [other for other in standing(tally.awaiting) if other != taker]
     pairs = lead_front(tally, [ower], others)
@@ -109,7 +96,7 @@ def without(evening, ower, taker):
 
 def _numbers_by(evening, ower):
     """The ascending list of the numbers of payments that an ower has in ways."""
-    _check_ower(evening, ower)
+    check_ower(evening, ower)
     check_people(evening, MOST_BY_ONE)
     takers = list(range(len(evening.due)))
     return Trees(Tally(evening), [takers for _ in evening.owed]).numbers_of_payments(ower)

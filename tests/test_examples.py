@@ -9,8 +9,10 @@ from quitsways.evenings import Evening, measure, total
 from quitsways.numbers import fewest, greatest, loaves
 from quitsways.pairs import passing, surely
 from quitsways.parts import least_groups, most_parts
+from quitsways.queues import queue_number
 from quitsways.settlements import settled
 from quitsways.ways import paid
+from quitsways.webs import is_safe, missing
 
 P = Evening(((2, 1), (1, 1), (1, 1)), ((2, 1), (1, 1), (1, 1)))
 Q = Evening(((1, 1), (3, 1)), ((2, 1), (2, 1)))
@@ -51,6 +53,13 @@ class TestExamples(unittest.TestCase):
     def test_e10(self):
         self.assertEqual(passing(Q, 1, 0), [(1, 1), (2, 1)])
         self.assertEqual(surely(Q), [(1, 0), (1, 1)])
+
+    def test_e11(self):
+        self.assertEqual(missing(Q, ((0, 0), (1, 0), (1, 1))), ((0, 1),))
+        self.assertIs(is_safe(Q, ((0, 0), (1, 0), (1, 1))), False)
+
+    def test_e12(self):
+        self.assertEqual(queue_number(P, (0, 1, 2), (1, 2, 0)), 4)
 
 
 if __name__ == "__main__":

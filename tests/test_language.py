@@ -15,16 +15,17 @@ BUILTINS = set("len range enumerate zip min max sum abs sorted reversed int str 
 METHODS = set("append clear copy count endswith extend find get index insert isalnum isalpha isdigit islower isspace "
               "isupper items join keys ljust lower lstrip partition pop remove replace reverse rfind rjust rpartition "
               "rsplit rstrip setdefault split splitlines startswith strip update upper values zfill bit_length".split())
-LIBRARY = {"math": {"gcd", "lcm", "isqrt", "comb", "perm", "factorial"}}
+LIBRARY = {"math": {"gcd", "lcm", "isqrt", "comb", "perm", "factorial"},
+           "itertools": {"product", "combinations", "permutations"}}
 BARRED = set("register mro elements open input law version_info with_traceback add_note attrgetter breakpoint builtins "
              "compile copyright credits delattr dir eval exec exit gc getattr globals hasattr help id importlib license "
              "locals methodcaller os quit setattr super type vars sys object".split())
 WORDS = re.compile(r"\b(type|typing|typing_extensions|enum|Enum|IntEnum|StrEnum|Flag|IntFlag|Generic|Protocol|ABC|ABCMeta|"
                    r"namedtuple|NamedTuple|TypedDict|TYPE_CHECKING|abstractmethod)\b|dataclass|overload|contextmanager")
 STATEMENTS = (ast.FunctionDef, ast.ClassDef, ast.Return, ast.Assign, ast.AugAssign, ast.For, ast.While, ast.If,
-              ast.Raise, ast.Expr, ast.Pass, ast.Break, ast.Continue, ast.ImportFrom, ast.Delete)
+              ast.Raise, ast.Expr, ast.Pass, ast.Break, ast.Continue, ast.ImportFrom, ast.Delete, ast.Try)
 BARRED_NODES = (ast.GeneratorExp, ast.Lambda, ast.Set, ast.SetComp, ast.Starred, ast.Yield, ast.YieldFrom, ast.Await,
-                ast.NamedExpr, ast.Div, ast.MatMult, ast.JoinedStr, ast.AnnAssign, ast.Global, ast.Nonlocal, ast.Try)
+                ast.NamedExpr, ast.Div, ast.MatMult, ast.JoinedStr, ast.AnnAssign, ast.Global, ast.Nonlocal)
 INTERFACE = {
     "evenings": "Evening(owed, due) total(evening) measure(evening) people(evening) scaled(evening, amount) "
                 "mirrored(evening) joined(one_evening, other_evening) part(evening, group) is_group(evening, thing) "
@@ -45,6 +46,16 @@ INTERFACE = {
     "pairs": "can_pass(evening, ower, taker, amount) passing(evening, ower, taker) surely(evening) "
              "way_passing(evening, ower, taker, amount) without(evening, ower, taker) most_by(evening, ower) "
              "least_by(evening, ower)",
+    "webs": "is_web(evening, thing) can_settle(evening, web) is_cut(evening, web, thing) is_stuck(evening, web, thing) "
+            "is_safe(evening, web) settle(evening, web) cut(evening, web) stuck(evening, web) missing(evening, web) "
+            "safer(evening, web) web_numbers(evening, web)",
+    "queues": "queue_way(evening, owers, takers) queue_number(evening, owers, takers) queue_least(evening) "
+              "queue_most(evening) queue_unit(evening) unlike_queues(evening) queues_alike(evening)",
+    "sittings": "Sitting(evening)",
+}
+METHODS_OF = {
+    "Sitting": "pay(ower, taker) so_far() left() is_over() can_pay() ends() toward(number) back() depth() copy() "
+               "trying(action)",
 }
 
 
@@ -149,7 +160,7 @@ class TestNames(unittest.TestCase):
                for each in node.body if isinstance(each, ast.FunctionDef)}
         self.assertEqual({each for each in own if each.startswith("__")}, {"__init__", "__eq__"})
         self.assertEqual({each for each in own if hasattr((), each) or hasattr({}, each) or hasattr("", each)},
-                         {"__init__", "__eq__"})
+                         {"__init__", "__eq__", "copy"})
         stored = {node.attr for _, tree in trees() for node in ast.walk(tree)
                   if isinstance(node, ast.Attribute) and isinstance(node.ctx, ast.Store)}
         self.assertEqual(stored & own, set())
@@ -176,6 +187,11 @@ class TestCode(unittest.TestCase):
                     for sign, side in zip(node.ops, node.comparators):
                         if isinstance(sign, (ast.Is, ast.IsNot)):
                             self.assertIsInstance(side, ast.Constant, where)
+                if isinstance(node, ast.Try):
+                    self.assertFalse(node.handlers or node.orelse, where)
+                    for each in node.finalbody:
+                        self.assertIsInstance(each, ast.Assign, where)
+                        self.assertIsInstance(each.value, ast.Name, where)
                 if isinstance(node, ast.BinOp) and isinstance(node.op, ast.Pow):
                     self.assertTrue(isinstance(node.right, ast.Constant) and 0 <= node.right.value <= 64, where)
 
@@ -237,6 +253,14 @@ class TestInterface(unittest.TestCase):
                 thing = getattr(loaded, name)
                 self.assertEqual(thing.__module__, f"quitsways.{module}")
                 self.assertEqual(list(inspect.signature(thing).parameters), arguments.split(", "), name)
+                if name in METHODS_OF:
+                    self.methods(thing, METHODS_OF[name])
+
+    def methods(self, thing, listed):
+        """A class defines all of these methods itself, with these arguments."""
+        for name, arguments in re.findall(r"(\w+)\(([^)]*)\)", listed):
+            wanted = ["self"] + [each for each in arguments.split(", ") if each]
+            self.assertEqual(list(inspect.signature(vars(thing)[name]).parameters), wanted, name)
 
 
 if __name__ == "__main__":
