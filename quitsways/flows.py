@@ -15,8 +15,7 @@ class Flow:
         self.tied = tied
         self.payers = [{} for _ in awaiting]
         self._pour()
-        self._fill()
-        before_owers, before_takers = self._reached()
+        before_owers, before_takers = self._fill()
         self.owers = sorted(before_owers)
         self.takers = sorted(before_takers)
 
@@ -43,11 +42,12 @@ class Flow:
                     self.awaiting[taker] -= units
 
     def _fill(self):
-        """Let more reach takers with rests, as long as some of them can be reached."""
-        goals = [None]
-        while goals:
+        """Let more reach takers with rests, as long as some of them can be reached, and give who is reached then."""
+        while True:
             before_owers, before_takers = self._reached()
             goals = [taker for taker in before_takers if self.awaiting[taker] > 0]
+            if not goals:
+                return before_owers, before_takers
             for goal in goals:
                 self._push(before_owers, before_takers, goal)
 

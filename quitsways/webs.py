@@ -140,7 +140,7 @@ def _flow_of_others(tally, tied, ower):
     wanted = [False for _ in tally.awaiting]
     for taker in tied[ower]:
         wanted[taker] = True
-    tied_others = [[taker for taker in takers if wanted[taker]] for takers in tied]
+    tied_others = [[each for each in takers if wanted[each]] for takers in tied]
     tied_others[ower] = []
     return Flow(tally.owing, tally.awaiting, tied_others)
 

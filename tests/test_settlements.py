@@ -53,12 +53,12 @@ class TestSettlements(Checks, unittest.TestCase):
             for _ in range(10):
                 values = reference.values(settled(evening, reference.drawn_way(chance, evening)))
                 for _ in range(chance.randint(0, 3)):
-                    ower = chance.randrange(len(owing))
-                    taker = chance.randrange(len(awaiting))
+                    # So much more here, and less elsewhere: in the same row, in the same column, or anywhere.
+                    ower, other = (chance.randrange(len(owing)) for _ in (0, 1))
+                    taker, last = (chance.randrange(len(awaiting)) for _ in (0, 1))
                     step = chance.choice([0, Fraction(1, 7), -Fraction(1, 7), owing[ower]])
-                    other = chance.randrange(len(owing))
                     values[ower][taker] += step
-                    values[other][taker] -= step
+                    values[chance.choice([ower, other])][chance.choice([taker, last])] -= step
                 right = (all(each >= 0 for row in values for each in row) and [sum(row) for row in values] == owing
                          and [sum(column) for column in zip(*values)] == awaiting)
                 found[right] += 1
@@ -71,6 +71,11 @@ class TestSettlements(Checks, unittest.TestCase):
         self.flag(False, is_settlement, Q, ((TWO, NOUGHT), (NOUGHT, TWO)))
         self.flag(False, is_settlement, Q, ((NOUGHT, NOUGHT), (TWO, TWO)))
         self.flag(False, is_settlement, Q, ((ONE, NOUGHT), (ONE, ONE)))
+        # All but two of one side.
+        right = ((ONE, ONE, NOUGHT), (ONE, NOUGHT, NOUGHT), (NOUGHT, NOUGHT, ONE))
+        self.flag(True, is_settlement, P, right)
+        self.flag(False, is_settlement, P, ((ONE, NOUGHT, ONE),) + right[1:])
+        self.flag(False, is_settlement, P, ((ONE, ONE, NOUGHT), (NOUGHT,) * 3, (ONE, NOUGHT, ONE)))
 
     def test_fractions_from_nought_on(self):
         self.flag(False, is_settlement, Q, (((-1, 1), TWO), ((3, 1), NOUGHT)))

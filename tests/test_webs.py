@@ -337,6 +337,20 @@ class TestStuck(Checks, unittest.TestCase):
             if can_settle(evening, web):
                 self.flag(True, is_safe, evening, more)
 
+    def test_rests_of_others_in_one_piece(self):
+        # Here two owers, one behind the other, give what they can to the takers of the first one, in one piece of
+        # pairs, and both have more: how it is split between them decides what can be paid in a row.
+        for owed, due, web in (
+                ([1, 8, 3, 14], [5, 3, 5, 5, 7, 1],
+                 ((0, 0), (0, 1), (0, 2), (0, 5), (1, 0), (1, 2), (1, 3), (1, 4), (1, 5), (2, 0), (3, 1), (3, 2), (3, 3),
+                  (3, 4))),
+                ([3, 6, 6, 5, 1, 2, 5], [11, 4, 8, 5],
+                 ((0, 0), (0, 2), (0, 3), (1, 0), (1, 2), (2, 0), (2, 3), (3, 1), (3, 3), (4, 2), (5, 0), (5, 1), (5, 3),
+                  (6, 0)))):
+            evening = reference.evening(owed, due)
+            self.assertTrue(can_settle(evening, web))
+            self.assertTrue(self.stuck(evening, web))
+
     def test_long_chains(self):
         for many in (2, 3, 20, 100):
             evening = reference.evening([2] * many, [3] + [2] * (many - 2) + [1])
