@@ -6,7 +6,7 @@ from quitsways.subsets import Subsets
 class Trees:
     """For all subsets of the people of a tally whether ties of theirs can be a piece of a way.
 
-    `ties` has for each ower the takers to whom they have ties. A tree on a subset has a root: what the others there
+    `tied` has for each ower the takers to whom they have ties. A tree on a subset has a root: what the others there
     owe more than they are due goes to it, and what they owe less comes from it. `roots` has for each subset those who
     are the root of a tree in which all other ties can be paid so; `hooks` has those of them who can then pay, or be
     paid by, somebody outside, so that nobody in the subset has a rest. Both are subsets themselves.
