@@ -31,6 +31,12 @@ def times(one, other):
     return lowest(one[0] * other[0], one[1] * other[1])
 
 
+def opposite(fraction):
+    """The fraction as far below 0 as this one is above it, or the other way round."""
+    top, bottom = fraction
+    return (-top, bottom)
+
+
 def is_at_most(one, other):
     """Whether one fraction is no more than another one."""
     return one[0] * other[1] <= other[0] * one[1]
@@ -53,6 +59,12 @@ def added(fractions):
     """The sum of the fractions."""
     shared = common_bottom(fractions)
     return lowest(sum(in_units(fractions, shared)), shared)
+
+
+def least_of(fractions):
+    """The least of the fractions."""
+    units = in_units(fractions, common_bottom(fractions))
+    return fractions[units.index(min(units))]
 
 
 def common_measure(fractions):

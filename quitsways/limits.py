@@ -5,6 +5,7 @@ from quitsways.evenings import people
 
 MOST_PARTED = 14
 MOST_LADDERED = 9
+MOST_COUNTED = 8
 
 
 def check_people(evening, most):

@@ -16,6 +16,7 @@ class Trees:
         subsets = Subsets(tally.owing, tally.awaiting)
         self.sums = subsets.sums
         self.bits = subsets.bits
+        self.owers = subsets.owers
         self.near = _neighbours(subsets, tied)
         self.roots = [0]
         self.hooks = [0]
@@ -64,6 +65,36 @@ class Trees:
                 if self.sums[subset] == 0:
                     ends = ends | found[subset]
         return _set_bits(ends)
+
+    def drawings(self):
+        """The list of the drawings of all ways along the ties, each an ascending tuple of pairs."""
+        trees = {}
+        found = [[()]]
+        for subset in range(1, len(self.sums)):
+            for person in _set_bits(self.roots[subset]):
+                trees[(subset, person)] = self._trees_on(trees, subset, person)
+            first = _set_bits(subset)[0]
+            drawn = []
+            for part in with_first(subset):
+                # Any person will do as the root of a piece.
+                if self.sums[part] == 0:
+                    pieces = trees.get((part, first), [])
+                    drawn.extend([piece + rest for piece in pieces for rest in found[subset - part]])
+            found.append(drawn)
+        return [tuple(sorted(pairs)) for pairs in found[-1]]
+
+    def _trees_on(self, trees, subset, root):
+        """The list of all trees on a subset with a root, as tuples of pairs, the lesser subsets' being known."""
+        others = subset - self.bits[root]
+        if others == 0:
+            return [()]
+        found = []
+        for part in self._branches(others, root):
+            rests = trees.get((subset - part, root), [])
+            for hook in _set_bits(self.hooks[part] & self.near[root]):
+                pair = (min(hook, root), max(hook, root) - self.owers)
+                found.extend([tree + rest + (pair,) for tree in trees[(part, hook)] for rest in rests])
+        return found
 
 
 def _neighbours(subsets, tied):

@@ -4,7 +4,9 @@ import unittest
 
 from quitsways.alike import is_alike, unit_of
 from quitsways.cheapest import cheapest
+from quitsways.counting import many_ways
 from quitsways.drawings import many_ways_for, pieces
+from quitsways.draws import mean
 from quitsways.evenings import Evening, measure, total
 from quitsways.numbers import fewest, greatest, loaves
 from quitsways.pairs import passing, surely
@@ -60,6 +62,12 @@ class TestExamples(unittest.TestCase):
 
     def test_e12(self):
         self.assertEqual(queue_number(P, (0, 1, 2), (1, 2, 0)), 4)
+
+    def test_e13(self):
+        self.assertEqual(many_ways(Q), 8)
+
+    def test_e14(self):
+        self.assertEqual(mean(Q), (3, 1))
 
 
 if __name__ == "__main__":

@@ -52,10 +52,17 @@ INTERFACE = {
     "queues": "queue_way(evening, owers, takers) queue_number(evening, owers, takers) queue_least(evening) "
               "queue_most(evening) queue_unit(evening) unlike_queues(evening) queues_alike(evening)",
     "sittings": "Sitting(evening)",
+    "ledgers": "Ledger(names)",
+    "counting": "many_ways(evening) way_number(evening, way) ways_by_number(evening) all_ways(evening) drawings(evening) "
+                "way_at(evening, number)",
+    "draws": "shares(evening) mean(evening) likely(evening, ower, taker)",
+    "games": "game(evening) reply(evening, row, ower, wish)",
 }
 METHODS_OF = {
     "Sitting": "pay(ower, taker) so_far() left() is_over() can_pay() ends() toward(number) back() depth() copy() "
                "trying(action)",
+    "Ledger": "lend(one, other, amount) bet(winner, losers, amount) debts() nets() evening() cancel(names) rings() back() "
+              "depth() copy() trying(action)",
 }
 
 
@@ -215,8 +222,12 @@ class TestCode(unittest.TestCase):
                     self.assertIsInstance(node.value, ast.Constant)
                 if isinstance(node, ast.Assign):
                     self.assertIsInstance(node.targets[0], ast.Name)
-                    for each in ast.walk(node.value):
-                        self.assertNotIsInstance(each, (ast.Call, ast.List, ast.Dict, ast.Name), name)
+                    items = node.value.keys + node.value.values if isinstance(node.value, ast.Dict) else [node.value]
+                    above = {each.name for each in tree.body[:tree.body.index(node)] if isinstance(each, ast.FunctionDef)}
+                    for item in items:
+                        for each in ast.walk(item):
+                            self.assertNotIsInstance(each, (ast.Call, ast.List, ast.Dict), name)
+                            self.assertTrue(not isinstance(each, ast.Name) or each.id in above, name)
 
     def test_sets_are_only_sorted(self):
         for name, tree in trees():
@@ -252,7 +263,8 @@ class TestInterface(unittest.TestCase):
             for name, arguments in re.findall(r"(\w+)\(([^)]*)\)", listed):
                 thing = getattr(loaded, name)
                 self.assertEqual(thing.__module__, f"quitsways.{module}")
-                self.assertEqual(list(inspect.signature(thing).parameters), arguments.split(", "), name)
+                wanted = [each for each in arguments.split(", ") if each]
+                self.assertEqual(list(inspect.signature(thing).parameters), wanted, name)
                 if name in METHODS_OF:
                     self.methods(thing, METHODS_OF[name])
 
