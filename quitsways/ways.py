@@ -36,12 +36,20 @@ def is_way(evening, thing):
 def led(evening, choose):
     """The way that a function choose(rests) leads, which gives a pair that can pay."""
     tally = Tally(evening)
-    way = []
+    row = led_row(tally, choose)
+    if not tally.is_over():
+        raise NoPair(len(row))
+    return row
+
+
+def led_row(tally, choose):
+    """The row that a function leads, until it gives no pair that can pay, or all are quits."""
+    row = []
     while not tally.is_over():
         pair = choose(tally.shown())
         if not tally.allows(pair):
-            raise NoPair(len(way))
+            break
         ower, taker = pair
         tally.pay(ower, taker)
-        way.append((ower, taker))
-    return tuple(way)
+        row.append((ower, taker))
+    return tuple(row)

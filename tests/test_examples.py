@@ -13,6 +13,7 @@ from quitsways.pairs import passing, surely
 from quitsways.parts import least_groups, most_parts
 from quitsways.queues import queue_number
 from quitsways.settlements import settled
+from quitsways.texts import evening_text
 from quitsways.ways import paid
 from quitsways.webs import is_safe, missing
 
@@ -68,6 +69,9 @@ class TestExamples(unittest.TestCase):
 
     def test_e14(self):
         self.assertEqual(mean(Q), (3, 1))
+
+    def test_e15(self):
+        self.assertEqual(evening_text(Q), "owed 1 3\ndue 2 2\n")
 
 
 if __name__ == "__main__":

@@ -57,12 +57,17 @@ INTERFACE = {
                 "way_at(evening, number)",
     "draws": "shares(evening) mean(evening) likely(evening, ower, taker)",
     "games": "game(evening) reply(evening, row, ower, wish)",
+    "payers": "tried(evening, payer) worst(payer, evenings) rule_way(evening, rule)",
+    "texts": "evening_text(evening) row_text(row)",
+    "reading": "read_evening(text) read_row(evening, text)",
+    "desk": "Desk()",
 }
 METHODS_OF = {
     "Sitting": "pay(ower, taker) so_far() left() is_over() can_pay() ends() toward(number) back() depth() copy() "
                "trying(action)",
     "Ledger": "lend(one, other, amount) bet(winner, losers, amount) debts() nets() evening() cancel(names) rings() back() "
               "depth() copy() trying(action)",
+    "Desk": "tell(line) undoable()",
 }
 
 
