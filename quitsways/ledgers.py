@@ -14,7 +14,7 @@ class Ledger:
     """Who owes whom how much, deed by deed, and the deeds can be taken back.
 
     A deed is a tuple of triples (debtor, lender, amount): so much more the one owes the other, or less if it is below
-    0. What two people owe one another is kept apart until it is told, or taken off as a ring.
+    0. Of two people at most one owes the other something, as what they owe one another is always set off.
     """
 
     def __init__(self, names):
@@ -42,14 +42,7 @@ class Ledger:
 
     def debts(self):
         """The ascending list of the triples (debtor, lender, amount), what two owe one another set off."""
-        owing = self._owing()
-        found = []
-        for debtor, lender in owing:
-            back = opposite(owing.get((lender, debtor), (0, 1)))
-            amount = added([owing[(debtor, lender)], back])
-            if amount[0] > 0:
-                found.append((debtor, lender, amount))
-        return sorted(found)
+        return sorted([(debtor, lender, amount) for (debtor, lender), amount in self._owing().items()])
 
     def nets(self):
         """The dict from all names to what they are due in all, below 0 for what they owe."""
@@ -130,11 +123,12 @@ class Ledger:
         self._deeds = self._deeds + (tuple(changes),)
 
     def _owing(self):
-        """The dict from all pairs (debtor, lender) to what the one owes the other, above 0, nothing set off."""
+        """The dict from pairs (debtor, lender) to what the one owes the other, above 0, set off."""
         changes = {}
         for deed in self._deeds:
             for debtor, lender, amount in deed:
                 changes.setdefault((debtor, lender), []).append(amount)
+                changes.setdefault((lender, debtor), []).append(opposite(amount))
         sums = {pair: added(changes[pair]) for pair in changes}
         return {pair: sums[pair] for pair in sums if sums[pair][0] > 0}
 

@@ -21,28 +21,28 @@ NO_AMOUNTS = [(0, 1), (-1, 1), (2, 4), (1, 0), (1, -1), (True, 1), (1, True), [1
 
 
 def told(ledger):
-    """All that a ledger tells of itself, but its evening."""
-    return (ledger.debts(), ledger.nets(), ledger.depth())
+    """All that a ledger tells of itself, but its evening, and its rings where it has many names."""
+    nets = ledger.nets()
+    return (ledger.debts(), nets, ledger.depth(), ledger.rings() if len(nets) <= 8 else None)
 
 
 class Model:
-    """What each owes each, by Python's fractions: nothing is set off but what is told."""
+    """What each owes each, set off, by Python's fractions: below 0 is what the other one owes."""
 
     def __init__(self, names):
         self.names = names
         self.owing = {pair: Fraction(0) for pair in itertools.permutations(names, 2)}
 
+    def add(self, debtor, lender, value):
+        """Let the one owe the other so much more."""
+        self.owing[debtor, lender] += value
+        self.owing[lender, debtor] -= value
+
     def debts(self):
-        found = []
-        for debtor, lender in self.owing:
-            value = self.owing[debtor, lender] - self.owing[lender, debtor]
-            if value > 0:
-                found.append((debtor, lender, reference.amount(value)))
-        return sorted(found)
+        return sorted((*pair, reference.amount(value)) for pair, value in self.owing.items() if value > 0)
 
     def net(self, name):
-        due = sum(value for (_, lender), value in self.owing.items() if lender == name)
-        return due - sum(value for (debtor, _), value in self.owing.items() if debtor == name)
+        return sum(self.owing[other, name] for other in self.names if other != name)
 
     def ring(self, names):
         """The debts along some unlike names, the last one's to the first one behind them."""
@@ -60,18 +60,18 @@ def some_amount(chance):
 
 def do_something(chance, ledger, model):
     """Let a ledger and its model do the same, drawn deed, and give the ledger's method's name."""
-    kind = chance.choice(["lend", "lend", "bet", "cancel"])
+    kind = chance.choice(["lend", "lend", "bet", "cancel", "cancel"])
     if kind == "lend":
         one, other = chance.sample(model.names, 2)
         amount = some_amount(chance)
         assert ledger.lend(one, other, amount) is None
-        model.owing[other, one] += reference.fraction(amount)
+        model.add(other, one, reference.fraction(amount))
     elif kind == "bet":
         winner, *losers = chance.sample(model.names, chance.randint(2, len(model.names)))
         amount = some_amount(chance)
         assert ledger.bet(winner, chance.choice([list, tuple])(losers), amount) is None
         for loser in losers:
-            model.owing[loser, winner] += reference.fraction(amount)
+            model.add(loser, winner, reference.fraction(amount))
     else:
         rings = model.rings()
         if not rings:
@@ -81,7 +81,7 @@ def do_something(chance, ledger, model):
         least = min(model.owing[pair] for pair in model.ring(ring))
         assert ledger.cancel(chance.choice([list, tuple])(ring[turn:] + ring[:turn])) == reference.amount(least)
         for pair in model.ring(ring):
-            model.owing[pair] -= least
+            model.add(*pair, -least)
     return kind
 
 
@@ -89,7 +89,8 @@ class TestNames(Checks, unittest.TestCase):
     def test_names(self):
         for names in (("a", "b"), ("b", "a"), NAMES, FORTY, ("abcdefgh", "z"), ("zzzzzzzz", "aaaaaaaa"), ("ok", "none")):
             self.assertEqual(Ledger(names).nets(), {name: (0, 1) for name in names})
-            self.assertEqual(told(Ledger(names)), ([], {name: (0, 1) for name in names}, 0))
+            rings = [] if len(names) <= 8 else None
+            self.assertEqual(told(Ledger(names)), ([], {name: (0, 1) for name in names}, 0, rings))
             self.assertIs(Ledger(names).evening(), None)
 
     def test_no_names(self):
@@ -194,6 +195,7 @@ class TestDeeds(Checks, unittest.TestCase):
         ledger.bet("ann", ["bob", "cy"], ONE)
         ledger.bet("bob", ["cy"], ONE)
         ledger.bet("cy", ["ann"], TWO)
+        self.assertEqual(ledger.debts(), [("ann", "cy", ONE), ("bob", "ann", ONE), ("cy", "bob", ONE)])
         before = told(ledger)
         for thing in ["eve", "", "Ann", b"ann", ("ann",)] + strangers():
             for names in ([thing], (thing, "ann"), ["ann", "ann", thing, "eve"], ("ann", "bob", thing), [thing, thing]):
@@ -205,10 +207,13 @@ class TestDeeds(Checks, unittest.TestCase):
                 self.refused(NoRing, {}, ledger.cancel, thing)
         for names in ((), [], ("ann",), ["bob"], ("ann", "ann"), ("ann", "cy", "bob", "cy"), ("ann", "cy", "ann", "cy"),
                       ("ann", "bob"), ("bob", "ann"), ("ann", "bob", "cy"), ("ann", "cy", "dee"), ("ann", "dee"), "ann",
-                      ("ann", "cy", "bob", "dee"), {"ann": 1, "cy": 2}, {"ann": 1, "cy": 2}.keys(), iter(["ann", "cy"]), "ab"):
+                      ("ann", "cy"), ("cy", "ann"), ("ann", "cy", "bob", "ann"), ("ann", "cy", "bob", "ann", "cy", "bob"),
+                      ("ann", "cy", "bob", "dee"), {"ann": 1, "cy": 2, "bob": 3}, {"ann": 1, "cy": 2, "bob": 3}.keys(),
+                      iter(["ann", "cy", "bob"]), "ab"):
             self.refused(NoRing, {}, ledger.cancel, names)
         self.assertEqual(told(ledger), before)
-        self.assertEqual(ledger.rings(), [("ann", "cy"), ("ann", "cy", "bob")])
+        self.assertEqual(ledger.rings(), [("ann", "cy", "bob")])
+        self.assertEqual(ledger.cancel(("ann", "cy", "bob")), ONE)
 
     def test_lists_can_be_changed(self):
         ledger = Ledger(NAMES)
@@ -261,16 +266,30 @@ class TestTold(Checks, unittest.TestCase):
         self.assertEqual(evening.due, tuple(reference.amount(nets[name]) for name in takers))
         self.assertEqual((type(ledger.evening()), type(names), type(names[0])), (tuple, tuple, tuple))
 
+    def rings_alone(self, ledger, model):
+        """Of a few names just those that are a ring can be taken off, whichever of them is the first one."""
+        before, rings = told(ledger), model.rings()
+        for many in (1, 2, 3, 4):
+            for names in itertools.permutations(model.names, many):
+                turn = names.index(min(names))
+                if names[turn:] + names[:turn] in rings:
+                    least = min(model.owing[pair] for pair in model.ring(names))
+                    self.assertEqual(ledger.trying(lambda tried: tried.cancel(names)), reference.amount(least))
+                else:
+                    self.refused(NoRing, {}, ledger.cancel, names)
+        self.assertEqual(told(ledger), before)
+
     def test_against_model(self):
         chance = random.Random(110)
         kinds = []
-        for turn in range(60):
-            names = tuple(chance.sample(["ann", "b", "cy", "dee", "ed", "z"], chance.randint(2, 5)))
+        for turn in range(80):
+            names = tuple(chance.sample(["ann", "b", "cy", "dee", "ed", "z"], chance.randint(2, 6)))
             ledger, model = Ledger(names), Model(names)
             self.like(ledger, model)
-            for _ in range(12):
+            for _ in range(25):
                 kinds.append(do_something(chance, ledger, model))
                 self.like(ledger, model)
+            self.rings_alone(ledger, model)
         self.assertTrue(min(kinds.count(kind) for kind in ("lend", "bet", "cancel")) > 50)
 
     def test_evening_of_fractions(self):
@@ -289,10 +308,10 @@ class TestTold(Checks, unittest.TestCase):
         for _ in range(120):
             one, other = chance.sample(names, 2)
             ledger.lend(one, other, (3, 2))
-            model.owing[other, one] += Fraction(3, 2)
+            model.add(other, one, Fraction(3, 2))
         ledger.bet(names[0], names[1:], ONE)
         for name in names[1:]:
-            model.owing[name, names[0]] += 1
+            model.add(name, names[0], 1)
         self.like(ledger, model)
         self.assertEqual(ledger.depth(), 121)
 
@@ -307,21 +326,88 @@ class TestTold(Checks, unittest.TestCase):
 
 
 class TestRings(Checks, unittest.TestCase):
-    def test_ring_of_two(self):
+    def no_ring_of(self, ledger, one, other):
+        """Neither of two people has a ring with the other one."""
+        before = told(ledger)
+        for names in ((one, other), [one, other], (other, one), [other, one]):
+            self.refused(NoRing, {}, ledger.cancel, names)
+        self.assertEqual(told(ledger), before)
+        self.assertEqual([ring for ring in ledger.rings() if len(ring) < 3], [])
+
+    def test_no_ring_of_two(self):
+        # What two owe one another is set off, so at most one of them owes the other one.
         ledger = Ledger(NAMES)
+        self.no_ring_of(ledger, "ann", "bob")
         ledger.lend("ann", "bob", TWO)
-        self.assertEqual(ledger.rings(), [])
-        self.refused(NoRing, {}, ledger.cancel, ("ann", "bob"))
-        ledger.lend("bob", "ann", ONE)
-        self.assertEqual(ledger.rings(), [("ann", "bob")])
-        for names in (("ann", "bob"), ["bob", "ann"]):
-            self.assertEqual(ledger.trying(lambda tried: (tried.cancel(names), tried.debts(), tried.rings())),
-                             (ONE, [("bob", "ann", ONE)], []))
-        self.assertEqual(ledger.cancel(("bob", "ann")), ONE)
-        self.refused(NoRing, {}, ledger.cancel, ("bob", "ann"))
-        self.assertEqual(ledger.debts(), [("bob", "ann", ONE)])
+        self.no_ring_of(ledger, "ann", "bob")
+        for amount, debts in ((ONE, [("bob", "ann", ONE)]), (ONE, []), (HALF, [("ann", "bob", HALF)])):
+            ledger.lend("bob", "ann", amount)
+            self.assertEqual(ledger.debts(), debts)
+            self.no_ring_of(ledger, "ann", "bob")
+            self.no_ring_of(ledger.copy(), "ann", "bob")
+            ledger.trying(lambda tried: self.no_ring_of(tried, "ann", "bob"))
+        ledger.bet("ann", ["bob", "cy"], ONE)
+        ledger.bet("cy", ["dee", "ann"], TWO)
+        self.assertEqual(ledger.debts(), [("ann", "cy", ONE), ("bob", "ann", HALF), ("dee", "cy", TWO)])
+        for one, other in itertools.combinations(NAMES, 2):
+            self.no_ring_of(ledger, one, other)
+        while ledger.depth():
+            ledger.back()
+            self.no_ring_of(ledger, "ann", "bob")
+
+    def ring_of_three(self):
+        """A ledger of a ring whose least debt was lent in part back."""
+        ledger = Ledger(NAMES)
+        ledger.lend("bob", "ann", (5, 1))
+        ledger.lend("ann", "bob", (14, 3))
+        ledger.lend("cy", "bob", (5, 1))
+        ledger.bet("ann", ["cy"], (5, 1))
+        return ledger
+
+    def test_least_debt_is_one_set_off(self):
+        ledger = self.ring_of_three()
+        debts = [("ann", "bob", (1, 3)), ("bob", "cy", (5, 1)), ("cy", "ann", (5, 1))]
+        rest = [("bob", "cy", (14, 3)), ("cy", "ann", (14, 3))]
+        self.assertEqual((ledger.debts(), ledger.rings()), (debts, [("ann", "bob", "cy")]))
+        for names in (("ann", "bob", "cy"), ["bob", "cy", "ann"], ("cy", "ann", "bob")):
+            for other in (ledger, ledger.copy()):
+                self.assertEqual(other.trying(lambda tried: (tried.cancel(names), tried.debts(), tried.rings())),
+                                 ((1, 3), rest, []))
+                self.assertEqual((other.debts(), other.rings(), other.depth()), (debts, [("ann", "bob", "cy")], 4))
+        self.assertEqual(ledger.cancel(("ann", "bob", "cy")), (1, 3))
+        self.refused(NoRing, {}, ledger.cancel, ("ann", "bob", "cy"))
+        self.assertEqual((ledger.debts(), ledger.rings(), ledger.depth()), (rest, [], 5))
         ledger.back()
-        self.assertEqual(ledger.rings(), [("ann", "bob")])
+        self.assertEqual((ledger.debts(), ledger.rings(), ledger.depth()), (debts, [("ann", "bob", "cy")], 4))
+
+    def test_rings_end_and_turn_with_their_debts(self):
+        ledger = self.ring_of_three()
+        ledger.lend("ann", "bob", (1, 3))
+        self.assertEqual((ledger.debts(), ledger.rings()), ([("bob", "cy", (5, 1)), ("cy", "ann", (5, 1))], []))
+        self.refused(NoRing, {}, ledger.cancel, ("ann", "bob", "cy"))
+        ledger.lend("ann", "bob", ONE)
+        self.assertEqual((ledger.debts()[0], ledger.rings()), (("bob", "ann", ONE), []))
+        self.refused(NoRing, {}, ledger.cancel, ("ann", "bob", "cy"))
+        self.refused(NoRing, {}, ledger.cancel, ("ann", "cy", "bob"))
+        ledger.lend("bob", "cy", (6, 1))
+        self.refused(NoRing, {}, ledger.cancel, ("ann", "cy", "bob"))
+        ledger.bet("cy", ["ann", "dee"], (7, 1))
+        self.assertEqual(ledger.debts(), [("ann", "cy", TWO), ("bob", "ann", ONE), ("cy", "bob", ONE), ("dee", "cy", (7, 1))])
+        self.assertEqual(ledger.rings(), [("ann", "cy", "bob")])
+        self.refused(NoRing, {}, ledger.cancel, ("ann", "bob", "cy"))
+        self.assertEqual(ledger.cancel(["bob", "ann", "cy"]), ONE)
+        self.assertEqual(ledger.debts(), [("ann", "cy", ONE), ("dee", "cy", (7, 1))])
+
+    def test_lent_behind_a_ring(self):
+        # A debt that a ring took off begins anew, to either side.
+        ledger = self.ring_of_three()
+        ledger.cancel(("ann", "bob", "cy"))
+        ledger.lend("ann", "bob", HALF)
+        self.assertEqual((ledger.debts()[0], ledger.rings()), (("bob", "ann", HALF), []))
+        ledger.lend("bob", "ann", ONE)
+        self.assertEqual((ledger.debts()[0], ledger.rings()), (("ann", "bob", HALF), [("ann", "bob", "cy")]))
+        self.assertEqual(ledger.cancel(["cy", "ann", "bob"]), HALF)
+        self.assertEqual(ledger.debts(), [("bob", "cy", (25, 6)), ("cy", "ann", (25, 6))])
 
     def test_ring_of_more(self):
         ledger = Ledger(NAMES)
@@ -340,26 +426,29 @@ class TestRings(Checks, unittest.TestCase):
     def test_all_rings_of_eight(self):
         names = ("h", "b", "a", "d", "c", "f", "e", "g")
         ledger, model = Ledger(names), Model(names)
-        chance = random.Random(112)
+        chance = random.Random(117)
         for one, other in itertools.permutations(names, 2):
-            if chance.random() < 0.35:
-                ledger.lend(one, other, ONE)
-                model.owing[other, one] += 1
+            amount = some_amount(chance)
+            ledger.lend(one, other, amount)
+            model.add(other, one, reference.fraction(amount))
         self.assertEqual(ledger.rings(), model.rings())
-        self.assertGreater(len(ledger.rings()), 10)
+        self.assertGreater(len(ledger.rings()), 100)
         self.assertEqual([type(ledger.rings()), type(ledger.rings()[0])], [list, tuple])
         for name in names:
             ledger.bet(name, [other for other in names if other != name], ONE)
-        self.assertEqual(len(ledger.rings()), 16064)
+        self.assertEqual(ledger.rings(), model.rings())
+        self.assertEqual({len(ring) for ring in ledger.rings()}, {3, 4, 5, 6, 7, 8})
         self.assertEqual(sorted(ledger.rings()), ledger.rings())
 
     def test_nine_names(self):
         ledger = Ledger(("a", "b", "c", "d", "e", "f", "g", "h", "i"))
         self.refused(TooMany, {"most": 8}, ledger.rings)
         ledger.bet("a", ["b"], ONE)
-        ledger.bet("b", ["a"], ONE)
+        ledger.bet("b", ["i"], ONE)
+        ledger.bet("i", ["a"], ONE)
         self.refused(TooMany, {"most": 8}, ledger.rings)
-        self.assertEqual(ledger.cancel(("a", "b")), ONE)
+        self.assertEqual(ledger.cancel(("a", "i", "b")), ONE)
+        self.assertEqual(ledger.debts(), [])
         self.refused(TooMany, {"most": 8}, Ledger(FORTY).rings)
 
 
@@ -407,18 +496,19 @@ class TestBack(Checks, unittest.TestCase):
     def test_copies(self):
         ledger = Ledger(NAMES)
         ledger.lend("ann", "bob", ONE)
-        ledger.lend("bob", "ann", TWO)
+        ledger.bet("bob", ["cy"], TWO)
+        ledger.lend("cy", "ann", ONE)
         other = ledger.copy()
         self.assertIs(type(other), Ledger)
         self.assertEqual(told(other), told(ledger))
-        other.cancel(("ann", "bob"))
-        self.assertEqual((ledger.depth(), other.depth()), (2, 3))
-        self.assertEqual(ledger.rings(), [("ann", "bob")])
-        ledger.back()
-        ledger.back()
+        other.cancel(("ann", "cy", "bob"))
+        self.assertEqual((ledger.depth(), other.depth()), (3, 4))
+        self.assertEqual((ledger.rings(), other.rings()), ([("ann", "cy", "bob")], []))
+        for _ in range(3):
+            ledger.back()
         self.refused(NothingDone, {}, ledger.back)
-        self.assertEqual(other.debts(), [("ann", "bob", ONE)])
-        for depth in (2, 1, 0):
+        self.assertEqual(other.debts(), [("cy", "bob", ONE)])
+        for depth in (3, 2, 1, 0):
             other.back()
             self.assertEqual(other.depth(), depth)
         self.refused(NothingDone, {}, other.back)
@@ -429,10 +519,10 @@ class TestBack(Checks, unittest.TestCase):
 
 class TestTrying(Checks, unittest.TestCase):
     def ledger(self):
-        """A ledger behind three deeds."""
+        """A ledger behind three deeds, with a ring from ann to cy to bob."""
         ledger = Ledger(NAMES)
         ledger.lend("ann", "bob", TWO)
-        ledger.lend("bob", "ann", ONE)
+        ledger.lend("bob", "cy", ONE)
         ledger.bet("cy", ["dee", "ann"], HALF)
         return ledger
 
@@ -443,9 +533,9 @@ class TestTrying(Checks, unittest.TestCase):
 
         def action(tried):
             seen.append(tried)
-            tried.lend("cy", "bob", ONE)
+            tried.lend("cy", "ann", ONE)
             tried.bet("dee", ["bob"], ONE)
-            seen.append(tried.cancel(("ann", "bob")))
+            seen.append(tried.cancel(("ann", "cy", "bob")))
             return tried.depth()
         self.assertEqual(ledger.trying(action), 6)
         self.assertIs(seen[0], ledger)
@@ -497,7 +587,7 @@ class TestTrying(Checks, unittest.TestCase):
             raise KeyError("inner")
 
         def outer(tried):
-            tried.cancel(["bob", "ann"])
+            tried.cancel(["bob", "ann", "cy"])
             middle = told(tried)
             found = tried.trying(lambda again: [again.lend("ann", "dee", ONE), again.back(), again.back(), told(again)][-1])
             self.assertEqual(found, before)

@@ -38,10 +38,11 @@ def front(left):
 
 
 def ledger():
-    """A ledger with a ring."""
+    """A ledger with a ring: each of its people owes the next one."""
     made = Ledger(NAMES)
-    made.lend("ann", "bob", TWO)
-    made.lend("bob", "ann", ONE)
+    made.lend("bob", "ann", TWO)
+    made.lend("cy", "bob", ONE)
+    made.lend("ann", "cy", ONE)
     return made
 
 
@@ -96,7 +97,7 @@ ARGUMENTS = [
     (lambda *told: ledger().bet(*told), ("ann", ["bob"], ONE), 0, (NoName, NoLosers)),
     (lambda *told: ledger().bet(*told), ("ann", ["bob"], ONE), 1, (NoName, NoLosers)),
     (lambda *told: ledger().bet(*told), ("ann", ["bob"], ONE), 2, (NoAmount,)),
-    (lambda *told: ledger().cancel(*told), (["ann", "bob"],), 0, (NoName, NoRing)),
+    (lambda *told: ledger().cancel(*told), (["ann", "bob", "cy"],), 0, (NoName, NoRing)),
     (counting.way_at, (P, 3), 1, (NoNumber,)), (counting.way_number, (P, WAY), 1, (NoWay,)),
     (draws.likely, (P, 0, 0), 1, (NoPerson,)), (draws.likely, (P, 0, 0), 2, (NoPerson,)),
     (games.reply, (P, (), 0, "few"), 1, (NoRow, NoPerson)), (games.reply, (P, (), 0, "few"), 2, (NoPerson,)),
